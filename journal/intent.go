@@ -20,15 +20,16 @@ const (
 // How many bytes a sum has, in the form of four bytes.
 const sumBytes = 4
 
-// One summer serves all disks: it keeps nothing but its table and the number of its calls.
-var (
-	summerOnce sync.Once
-	summer     *crc.Summer
-)
+// Sums are those of one Commit, or of one Recover. Their summer is made when the first of them is asked
+// for, and serves the others, so that its table is made once too.
+type sums struct {
+	once   sync.Once
+	summer *crc.Summer
+}
 
-func theSummer() *crc.Summer {
-	summerOnce.Do(func() { summer = crc.New() })
-	return summer
+func (s *sums) theSummer() *crc.Summer {
+	s.once.Do(func() { s.summer = crc.New() })
+	return s.summer
 }
 
 // A change is what an intent tells of a source: its name, and the sum of its new bytes.
@@ -37,37 +38,37 @@ type change struct {
 	sum  uint32
 }
 
-func layIntent(files []api.File) []byte {
+func layIntent(s *sums, files []api.File) []byte {
 	b := num.Put(nil, uint64(len(files)))
 	for _, f := range files {
 		b = append(num.Put(b, uint64(len(f.Name))), f.Name...)
-		b = num.Put4(b, theSummer().Of(f.Data))
+		b = num.Put4(b, s.theSummer().Of(f.Data))
 	}
 	return b
 }
 
-func layCommit(intent []byte) []byte { return num.Put4(nil, theSummer().Of(intent)) }
+func layCommit(s *sums, intent []byte) []byte { return num.Put4(nil, s.theSummer().Of(intent)) }
 
 // layRecord has no error to tell: both kinds may be, and an intent of MaxFiles names is far from record.Most.
-func layRecord(kind int, payload []byte) []byte {
-	b, _ := record.Put(theSummer(), nil, record.Rec{Kind: kind, Payload: payload})
+func layRecord(s *sums, kind int, payload []byte) []byte {
+	b, _ := record.Put(s.theSummer(), nil, record.Rec{Kind: kind, Payload: payload})
 	return b
 }
 
 // committed tells whether a disk's journal is committed, and of which sources.
-func committed(d *disk.Disk) (sources []string, ok bool) {
+func committed(s *sums, d *disk.Disk) (sources []string, ok bool) {
 	b, _ := d.Read(journalName)
-	l, _ := record.All(theSummer(), b)
+	l, _ := record.All(s.theSummer(), b)
 	if len(l) < 2 || l[0].Kind != intentKind || l[1].Kind != commitKind {
 		return nil, false
 	}
 	intent, commit := l[0].Payload, l[1].Payload
 	changes, ok := readIntent(intent)
-	if !ok || !bytes.Equal(commit, layCommit(intent)) {
+	if !ok || !bytes.Equal(commit, layCommit(s, intent)) {
 		return nil, false
 	}
 	for _, c := range changes {
-		if !shadowMayBe(d, c) {
+		if !shadowMayBe(s, d, c) {
 			return nil, false
 		}
 		sources = append(sources, c.name)
@@ -76,9 +77,9 @@ func committed(d *disk.Disk) (sources []string, ok bool) {
 }
 
 // shadowMayBe tells whether a shadow has the bytes that were to be, or isn't there.
-func shadowMayBe(d *disk.Disk, c change) bool {
+func shadowMayBe(s *sums, d *disk.Disk, c change) bool {
 	b, e := d.Read(shadow(c.name))
-	return e == api.ErrNone || e == api.OK && theSummer().Of(b) == c.sum
+	return e == api.ErrNone || e == api.OK && s.theSummer().Of(b) == c.sum
 }
 
 // readIntent takes any bytes; it ends at the first change that isn't one, however many are said to come.

@@ -2,6 +2,10 @@ package journal_test
 
 import (
 	"bytes"
+	"go/ast"
+	"go/parser"
+	"go/token"
+	"path/filepath"
 	"slices"
 	"strconv"
 	"strings"
@@ -466,6 +470,29 @@ func TestOneAnswer(t *testing.T) {
 	for range 5 {
 		if run() != first {
 			t.Fatal("the same calls have other answers")
+		}
+	}
+}
+
+// The summer and its once lie in what a call makes: no variable stands at package level, so that nothing
+// is kept from call to call but on the disk.
+func TestNothingIsKeptAtPackageLevel(t *testing.T) {
+	names, err := filepath.Glob("*.go")
+	if err != nil || len(names) == 0 {
+		t.Fatal(names, err)
+	}
+	for _, name := range names {
+		if strings.HasSuffix(name, "_test.go") {
+			continue
+		}
+		f, err := parser.ParseFile(token.NewFileSet(), name, nil, 0)
+		if err != nil {
+			t.Fatal(err)
+		}
+		for _, d := range f.Decls {
+			if g, ok := d.(*ast.GenDecl); ok && g.Tok == token.VAR {
+				t.Errorf("%s has a variable at package level", name)
+			}
 		}
 	}
 }

@@ -53,13 +53,13 @@ func gone(d *disk.Disk, names ...string) step {
 }
 
 // prepare is all that is done up to the commit: no source changes by it.
-func prepare(d *disk.Disk, files []api.File) step {
-	intent := layIntent(files)
-	steps := []step{create(d, journalName), put(d, journalName, layRecord(intentKind, intent)), d.SyncDir}
+func prepare(s *sums, d *disk.Disk, files []api.File) step {
+	intent := layIntent(s, files)
+	steps := []step{create(d, journalName), put(d, journalName, layRecord(s, intentKind, intent)), d.SyncDir}
 	for _, f := range files {
 		steps = append(steps, create(d, shadow(f.Name)), put(d, shadow(f.Name), f.Data))
 	}
-	return inRow(append(steps, d.SyncDir, put(d, journalName, layRecord(commitKind, layCommit(intent))))...)
+	return inRow(append(steps, d.SyncDir, put(d, journalName, layRecord(s, commitKind, layCommit(s, intent))))...)
 }
 
 // goForward is what is done behind the commit, with those of the sources whose shadows are there: the
